@@ -233,6 +233,34 @@ func TestRows(t *testing.T) {
 	}
 }
 
+// The array stands as it was laid at the start: what comes of each byte.
+func TestRowsAreLaid(t *testing.T) {
+	for i, row := range rows {
+		if row != crc32.IEEETable[i] {
+			t.Errorf("row %d was laid as %x, want %x", i, row, crc32.IEEETable[i])
+		}
+	}
+}
+
+// Answers are worked out by the shifts: they are the same whatever stands in the array.
+func TestAnswersHangOnNoRow(t *testing.T) {
+	laid := rows
+	defer func() { rows = laid }()
+	for i := range rows {
+		rows[i] = ^laid[i]
+	}
+	for i := range 256 {
+		if row := Row(byte(i)); row != crc32.IEEETable[i] {
+			t.Errorf("Row(%d) = %x, want %x", i, row, crc32.IEEETable[i])
+		}
+	}
+	for _, b := range samples() {
+		if sum, want := Sum(b), plain(b); sum != want || More(0, b) != want {
+			t.Errorf("Sum of %d bytes = %x, More = %x, want %x", len(b), sum, More(0, b), want)
+		}
+	}
+}
+
 func TestBytes(t *testing.T) {
 	for _, c := range []struct {
 		sum  uint32
